@@ -1,0 +1,1 @@
+"""Cornerdoors: triangles with three marks, and walks through doors."""
