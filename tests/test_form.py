@@ -1,4 +1,4 @@
-"""The form of the package's files: those rules of LANGUAGE.md that a walk over the code can see."""
+"""The form of the package's files: some of the rules of LANGUAGE.md, not all of them."""
 
 import ast
 import builtins
