@@ -47,6 +47,18 @@ def bound_names(tree):
     return names
 
 
+def top_names(tree):
+    names = [node.name for node in tree.body if isinstance(node, (ast.FunctionDef, ast.ClassDef))]
+    for node in tree.body:
+        if isinstance(node, ast.Assign):
+            names.extend(target.id for target in node.targets)
+    return names
+
+
+def imported_names(tree):
+    return [each.asname or each.name for node in tree.body if isinstance(node, ast.ImportFrom) for each in node.names]
+
+
 def is_text(node):
     return isinstance(node, ast.Expr) and isinstance(node.value, ast.Constant) and isinstance(node.value.value, str)
 
@@ -111,6 +123,49 @@ class Form(unittest.TestCase):
                     self.assertEqual(node.level, 0)
                     self.assertRegex(node.module, r"^cornerdoors\.[a-z0-9_]+$")
                     self.assertNotIn("*", [each.name for each in node.names])
+
+    def test_imports_come_from_the_file_that_defines_the_name(self):
+        for tree in TREES:
+            for node in tree.body:
+                if isinstance(node, ast.ImportFrom):
+                    drawn = TREES[FILES.index(PACKAGE / (node.module.split(".")[1] + ".py"))]
+                    for each in node.names:
+                        self.assertIn(each.name, top_names(drawn))
+
+    def test_no_two_files_draw_from_one_another(self):
+        drawn = {}
+        for path, tree in zip(FILES, TREES):
+            modules = [node.module for node in tree.body if isinstance(node, ast.ImportFrom)]
+            drawn["cornerdoors." + path.stem] = modules
+        settled = []
+        while len(settled) < len(drawn):
+            free = [name for name in drawn if name not in settled and set(drawn[name]) <= set(settled)]
+            self.assertNotEqual(free, [])
+            settled.extend(free)
+
+    def test_no_local_is_called_like_a_name_of_its_file_s_top(self):
+        for tree in TREES:
+            taken = top_names(tree) + imported_names(tree)
+            self.assertEqual(len(taken), len(set(taken)))
+            for node in tree.body:
+                if isinstance(node, ast.FunctionDef):
+                    inner = [name for part in node.body + [node.args] for name in bound_names(part)]
+                    self.assertEqual([name for name in inner if name in taken], [])
+
+    def test_is_stands_beside_none_true_and_false(self):
+        for tree in TREES:
+            for node in ast.walk(tree):
+                if isinstance(node, ast.Compare):
+                    for sign, value in zip(node.ops, node.comparators):
+                        if isinstance(sign, (ast.Is, ast.IsNot)):
+                            self.assertIn(ast.dump(value), [ast.dump(ast.Constant(each)) for each in (None, True, False)])
+
+    def test_no_set_is_kept(self):
+        for tree in TREES:
+            for node in ast.walk(tree):
+                self.assertNotIsInstance(node, ast.Set)
+                if isinstance(node, ast.Name):
+                    self.assertNotIn(node.id, ("set", "frozenset"))
 
     def test_names(self):
         for tree in TREES:

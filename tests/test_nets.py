@@ -6,35 +6,7 @@ import unittest
 
 from cornerdoors.errors import BadNet, NoPlace, NoTriangle
 from cornerdoors.nets import Net, corners, mark, sense, sides, triangles
-
-SIZES = range(1, 13)
-FAR = [50, 10 ** 6, 10 ** 30, 10 ** 5000]
-
-
-def rows_of(size, rule=lambda x, y: (x + 2 * y) % 3):
-    return [[rule(x, y) for x in range(size - y + 1)] for y in range(size + 1)]
-
-
-def mixed_rows(size, seed=0):
-    return rows_of(size, lambda x, y: (x * x + 5 * x * y + 3 * y * y * y + seed * (x + 1) + seed * y * y) % 3)
-
-
-def places_of(size):
-    span = range(size + 1)
-    return [place for place in itertools.product(span, span) if sum(place) <= size]
-
-
-def told_corners(triangle):
-    x, y, kind = triangle
-    if kind == 0:
-        return [(x, y), (x + 1, y), (x, y + 1)]
-    return [(x + 1, y), (x + 1, y + 1), (x, y + 1)]
-
-
-def told_triangles(size):
-    places = places_of(size)
-    around = itertools.product(range(-2, size + 3), range(-2, size + 3), (0, 1))
-    return [triangle for triangle in around if all(place in places for place in told_corners(triangle))]
+from told import FAR, SIZES, mixed_rows, places_of, rows_of, told_corners, told_triangles
 
 
 class MakingNets(unittest.TestCase):
