@@ -28,7 +28,7 @@ def check_floor(net, floor):
 
 def across(net, floor):
     # To each side (triangle, k) the side of the floor's other triangle between the same two places,
-    # or None at the border. The keys come in the order of the floor, then of k; callers rely on it.
+    # or None at the border. The keys come in the order of the floor, then of k; border relies on it.
     met = {}
     beyond = {}
     for triangle in floor:
